@@ -1,0 +1,25 @@
+// Package fault makes the errors of the calls, and lists them.
+package fault
+
+import (
+	"errors"
+
+	"vault/api"
+)
+
+// At gives the error of a kind at a place, over nothing.
+// It answers an error and no *api.Fault, so that nobody hands on a nil pointer as an error that is there.
+func At(kind api.Kind, where int) error {
+	return &api.Fault{Kind: kind, Where: where}
+}
+
+// Marks lists an error's Fault and those that it wraps, the outermost first.
+func Marks(err error) []api.Mark {
+	marks := []api.Mark{}
+	var fault *api.Fault
+	for errors.As(err, &fault) {
+		marks = append(marks, api.Mark{Kind: fault.Kind, Where: fault.Where})
+		err = fault.Inner
+	}
+	return marks
+}

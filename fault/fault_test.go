@@ -1,0 +1,42 @@
+package fault
+
+import (
+	"errors"
+	"slices"
+	"testing"
+
+	"vault/api"
+)
+
+func TestAt(t *testing.T) {
+	err := At(api.ErrRange, -3)
+	var fault *api.Fault
+	if !errors.As(err, &fault) || *fault != (api.Fault{Kind: api.ErrRange, Where: -3}) {
+		t.Errorf("At(ErrRange, -3) = %#v", err)
+	}
+	if !errors.Is(err, api.ErrRange) || errors.Is(err, api.ErrBig) {
+		t.Errorf("At(ErrRange, -3) is of the wrong kind")
+	}
+}
+
+// TestMarks: P17, also for the errors over others that later calls answer.
+func TestMarks(t *testing.T) {
+	code := &api.Fault{Kind: api.ErrCode, Where: 0}
+	header := &api.Fault{Kind: api.ErrHeader, Where: 7, Inner: code}
+	missing := &api.Missing{Names: []string{"a"}}
+	for _, c := range []struct {
+		err  error
+		want []api.Mark
+	}{
+		{nil, nil},
+		{code, []api.Mark{{Kind: api.ErrCode, Where: 0}}},
+		{header, []api.Mark{{Kind: api.ErrHeader, Where: 7}, {Kind: api.ErrCode, Where: 0}}},
+		{&api.Fault{Kind: api.ErrEmpty, Where: 1, Inner: header}, []api.Mark{{Kind: api.ErrEmpty, Where: 1}, {Kind: api.ErrHeader, Where: 7}, {Kind: api.ErrCode, Where: 0}}},
+		{&api.Fault{Kind: api.ErrLost, Where: 1, Inner: missing}, []api.Mark{{Kind: api.ErrLost, Where: 1}}},
+		{&api.Fault{Kind: api.ErrState, Where: 0, Inner: &api.Fault{Kind: api.ErrState, Where: 0}}, []api.Mark{{Kind: api.ErrState, Where: 0}, {Kind: api.ErrState, Where: 0}}},
+	} {
+		if marks := Marks(c.err); !slices.Equal(marks, c.want) {
+			t.Errorf("P17: Marks(%v) = %v, want %v", c.err, marks, c.want)
+		}
+	}
+}

@@ -1,0 +1,76 @@
+// Package vault: objects packed into volumes that can lose parts of themselves: see DOC.md.
+package vault
+
+import (
+	"vault/api"
+	"vault/digest"
+	"vault/fault"
+	"vault/stripe"
+)
+
+// Digest gives the digest of bytes (P3).
+func Digest(s string) string { return digest.Of(s) }
+
+// Parity gives the parity of blocks (P4).
+func Parity(k int, m int, data []string) ([]string, error) {
+	return stripe.Parity(k, m, data)
+}
+
+// Restore gives all blocks of a stripe (P5).
+func Restore(k int, m int, blocks []string, has []bool) ([]string, error) {
+	return stripe.Restore(k, m, blocks, has)
+}
+
+// Top gives the top of a tree (P6).
+func Top(leaves []string) string { return "" }
+
+// Path gives the path of a leaf (P6).
+func Path(leaves []string, i int) ([]string, error) { return nil, nil }
+
+// Follows tells whether a leaf and its path lead to a top (P6).
+func Follows(top string, n int, i int, leaf string, path []string) bool { return false }
+
+// Writer packs objects.
+type Writer struct{}
+
+// NewWriter begins a vault (P7).
+func NewWriter(p api.Params) (*Writer, error) { return nil, nil }
+
+// Begin begins an object (P8).
+func (w *Writer) Begin(name string) error { return nil }
+
+// Write puts bytes behind those of the object that was begun last (P9).
+func (w *Writer) Write(data string) (int, error) { return 0, nil }
+
+// Close gives the volumes and the root (P10).
+func (w *Writer) Close() ([]string, string, error) { return nil, "", nil }
+
+// Vault is a vault that was opened.
+type Vault struct{}
+
+// Open opens a vault (P12).
+func Open(volumes []string, root string) (*Vault, error) { return nil, nil }
+
+// Params tells the vault's params (P13).
+func (v *Vault) Params() api.Params { return api.Params{} }
+
+// Root tells the vault's root (P13).
+func (v *Vault) Root() string { return "" }
+
+// Objects tells which objects there are (P13).
+func (v *Vault) Objects() []api.Entry { return nil }
+
+// Verify tells what is there (P14).
+func (v *Vault) Verify() api.Report { return api.Report{} }
+
+// Unpack gives the objects (P15).
+func (v *Vault) Unpack() ([]api.Object, error) { return nil, nil }
+
+// Repair gives the volumes as they were (P16).
+func (v *Vault) Repair() ([]string, error) { return nil, nil }
+
+// Faults lists an error and those that it wraps (P17).
+func Faults(err error) []api.Mark { return fault.Marks(err) }
+
+// Lost gives the names that an error tells as lost (P17).
+func Lost(err error) []string { return nil }
