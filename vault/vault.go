@@ -5,6 +5,7 @@ import (
 	"vault/api"
 	"vault/digest"
 	"vault/fault"
+	"vault/proof"
 	"vault/stripe"
 )
 
@@ -22,13 +23,17 @@ func Restore(k int, m int, blocks []string, has []bool) ([]string, error) {
 }
 
 // Top gives the top of a tree (P6).
-func Top(leaves []string) string { return "" }
+func Top(leaves []string) string { return proof.Top(leaves) }
 
 // Path gives the path of a leaf (P6).
-func Path(leaves []string, i int) ([]string, error) { return nil, nil }
+func Path(leaves []string, i int) ([]string, error) {
+	return proof.Path(leaves, i)
+}
 
 // Follows tells whether a leaf and its path lead to a top (P6).
-func Follows(top string, n int, i int, leaf string, path []string) bool { return false }
+func Follows(top string, n int, i int, leaf string, path []string) bool {
+	return proof.Follows(top, n, i, leaf, path)
+}
 
 // Writer packs objects.
 type Writer struct{}
