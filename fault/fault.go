@@ -13,6 +13,11 @@ func At(kind api.Kind, where int) error {
 	return &api.Fault{Kind: kind, Where: where}
 }
 
+// Over gives the error of a kind at a place, which wraps another one.
+func Over(kind api.Kind, where int, inner error) error {
+	return &api.Fault{Kind: kind, Where: where, Inner: inner}
+}
+
 // Marks lists an error's Fault and those that it wraps, the outermost first.
 func Marks(err error) []api.Mark {
 	marks := []api.Mark{}

@@ -19,6 +19,18 @@ func TestAt(t *testing.T) {
 	}
 }
 
+func TestOver(t *testing.T) {
+	inner := At(api.ErrName, 0)
+	err := Over(api.ErrState, 5, inner)
+	var fault *api.Fault
+	if !errors.As(err, &fault) || *fault != (api.Fault{Kind: api.ErrState, Where: 5, Inner: inner}) {
+		t.Errorf("Over(ErrState, 5, ErrName at 0) = %#v", err)
+	}
+	if !errors.Is(err, api.ErrState) || !errors.Is(err, api.ErrName) || errors.Is(err, api.ErrBig) {
+		t.Errorf("Over(ErrState, 5, ErrName at 0) is of the wrong kinds")
+	}
+}
+
 // TestMarks: P17, also for the errors over others that later calls answer.
 func TestMarks(t *testing.T) {
 	code := &api.Fault{Kind: api.ErrCode, Where: 0}

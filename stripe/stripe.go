@@ -13,7 +13,7 @@ import (
 
 // Parity gives the m parity blocks of k blocks of data (P4).
 func Parity(k int, m int, data []string) ([]string, error) {
-	if err := checkParams(k, m); err != nil {
+	if err := CheckParams(k, m); err != nil {
 		return nil, err
 	}
 	if len(data) != k {
@@ -24,12 +24,21 @@ func Parity(k int, m int, data []string) ([]string, error) {
 			return nil, fault.At(api.ErrBig, i)
 		}
 	}
-	return values(data, points(0, k), points(k, k+m)), nil
+	return parity(k, m, data), nil
+}
+
+// Whole gives all k + m blocks of a stripe. Its k blocks of data must be there, and be of one length.
+func Whole(k int, m int, data []string) []string {
+	return slices.Concat(data, parity(k, m, data))
+}
+
+func parity(k int, m int, data []string) []string {
+	return values(data, points(0, k), points(k, k+m))
 }
 
 // Restore gives all k + m blocks of those that has (P5).
 func Restore(k int, m int, blocks []string, has []bool) ([]string, error) {
-	if err := checkParams(k, m); err != nil {
+	if err := CheckParams(k, m); err != nil {
 		return nil, err
 	}
 	if len(blocks) != k+m {
@@ -48,7 +57,8 @@ func Restore(k int, m int, blocks []string, has []bool) ([]string, error) {
 	return fill(blocks, known, wanted), nil
 }
 
-func checkParams(k int, m int) error {
+// CheckParams refuses a k or an m that is none (P4).
+func CheckParams(k int, m int) error {
 	if k < 1 || k > api.MaxParts {
 		return fault.At(api.ErrParams, 0)
 	}

@@ -155,7 +155,7 @@ func TestParityRefuses(t *testing.T) {
 	} {
 		call := fmt.Sprintf("P4: Parity(%d, %d, %d blocks)", c.k, c.m, len(c.data))
 		list, err := vault.Parity(c.k, c.m, c.data)
-		checkFault(t, call, err, c.want)
+		checkFaults(t, call, err, c.want)
 		if list != nil {
 			t.Errorf("%s: refused, and yet %q", call, list)
 		}
@@ -202,7 +202,7 @@ func TestRestoreSubsets(t *testing.T) {
 				}
 				list, err := vault.Restore(k, m, blocks, has)
 				if count < k {
-					checkFault(t, fmt.Sprintf("P5: Restore(%d, %d, .., %v)", k, m, has), err, api.Mark{Kind: api.ErrLost, Where: count})
+					checkFaults(t, fmt.Sprintf("P5: Restore(%d, %d, .., %v)", k, m, has), err, api.Mark{Kind: api.ErrLost, Where: count})
 					if list != nil {
 						t.Fatalf("P5: refused, and yet %q", list)
 					}
@@ -293,7 +293,7 @@ func TestRestoreRefuses(t *testing.T) {
 	} {
 		call := fmt.Sprintf("P5: Restore(%d, %d, %q, %v)", c.k, c.m, c.blocks, c.has)
 		list, err := vault.Restore(c.k, c.m, c.blocks, c.has)
-		checkFault(t, call, err, c.want)
+		checkFaults(t, call, err, c.want)
 		if list != nil {
 			t.Errorf("%s: refused, and yet %q", call, list)
 		}

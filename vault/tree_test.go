@@ -167,14 +167,14 @@ func TestPathRefuses(t *testing.T) {
 		for _, i := range []int{math.MinInt, math.MinInt + 1, -n - 1, -1, n, n + 1, 65, math.MaxInt - 1, math.MaxInt} {
 			call := fmt.Sprintf("P6: Path(%d leaves, %d)", n, i)
 			path, err := vault.Path(leaves, i)
-			checkFault(t, call, err, api.Mark{Kind: api.ErrRange, Where: i})
+			checkFaults(t, call, err, api.Mark{Kind: api.ErrRange, Where: i})
 			if path != nil {
 				t.Errorf("%s: refused, and yet %x", call, path)
 			}
 		}
 	}
 	path, err := vault.Path(nil, 0)
-	checkFault(t, "P6: Path(nil, 0)", err, api.Mark{Kind: api.ErrRange, Where: 0})
+	checkFaults(t, "P6: Path(nil, 0)", err, api.Mark{Kind: api.ErrRange, Where: 0})
 	if path != nil {
 		t.Errorf("P6: Path(nil, 0): refused, and yet %x", path)
 	}

@@ -2,8 +2,11 @@
 package vault
 
 import (
+	"sync"
+
 	"vault/api"
 	"vault/digest"
+	"vault/draft"
 	"vault/fault"
 	"vault/proof"
 	"vault/stripe"
@@ -35,20 +38,41 @@ func Follows(top string, n int, i int, leaf string, path []string) bool {
 	return proof.Follows(top, n, i, leaf, path)
 }
 
-// Writer packs objects.
-type Writer struct{}
+// Writer packs objects. Its calls may come from several goroutines: the mutex is held while one of them works.
+type Writer struct {
+	mutex sync.Mutex
+	draft *draft.Draft
+}
 
 // NewWriter begins a vault (P7).
-func NewWriter(p api.Params) (*Writer, error) { return nil, nil }
+func NewWriter(p api.Params) (*Writer, error) {
+	begun, err := draft.New(p)
+	if err != nil {
+		return nil, err
+	}
+	return &Writer{draft: begun}, nil
+}
 
 // Begin begins an object (P8).
-func (w *Writer) Begin(name string) error { return nil }
+func (w *Writer) Begin(name string) error {
+	w.mutex.Lock()
+	defer w.mutex.Unlock()
+	return w.draft.Begin(name)
+}
 
 // Write puts bytes behind those of the object that was begun last (P9).
-func (w *Writer) Write(data string) (int, error) { return 0, nil }
+func (w *Writer) Write(data string) (int, error) {
+	w.mutex.Lock()
+	defer w.mutex.Unlock()
+	return w.draft.Write(data)
+}
 
 // Close gives the volumes and the root (P10).
-func (w *Writer) Close() ([]string, string, error) { return nil, "", nil }
+func (w *Writer) Close() ([]string, string, error) {
+	w.mutex.Lock()
+	defer w.mutex.Unlock()
+	return w.draft.Close()
+}
 
 // Vault is a vault that was opened.
 type Vault struct{}

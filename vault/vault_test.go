@@ -9,24 +9,33 @@ import (
 	"vault/vault"
 )
 
-// checkFault: the error is that of a kind at a place, over nothing, by every way to ask.
-func checkFault(t *testing.T, call string, err error, want api.Mark) {
+func marks(list ...api.Mark) []api.Mark { return list }
+
+func at(kind api.Kind, where int) api.Mark { return api.Mark{Kind: kind, Where: where} }
+
+// checkFaults: the error is a Fault with the first of these marks over one with the next, and so on, the last over nothing; none is wanted if there are none.
+func checkFaults(t *testing.T, call string, err error, want ...api.Mark) {
 	t.Helper()
-	var fault *api.Fault
-	if !errors.As(err, &fault) || *fault != (api.Fault{Kind: want.Kind, Where: want.Where}) {
-		t.Errorf("%s: %v, want error %d at %d over nothing", call, err, want.Kind, want.Where)
+	if !slices.Equal(vault.Faults(err), want) {
+		t.Errorf("%s: %v, want %v", call, err, want)
 		return
 	}
-	if direct, ok := err.(*api.Fault); !ok || direct != fault {
-		t.Errorf("%s: the error is no *api.Fault itself: %#v", call, err)
-	}
 	for kind := api.ErrParams; kind <= api.ErrRange; kind++ {
-		if errors.Is(err, kind) != (kind == want.Kind) {
+		wanted := slices.ContainsFunc(want, func(mark api.Mark) bool { return mark.Kind == kind })
+		if errors.Is(err, kind) != wanted {
 			t.Errorf("%s: %v, asked for the kind %d", call, err, kind)
 		}
 	}
-	if marks := vault.Faults(err); !slices.Equal(marks, []api.Mark{want}) {
-		t.Errorf("P17: Faults(%v) = %v, want %v", err, marks, want)
+	for _, mark := range want {
+		fault, ok := err.(*api.Fault)
+		if !ok || fault.Kind != mark.Kind || fault.Where != mark.Where {
+			t.Errorf("%s: %#v is no *api.Fault with %v", call, err, mark)
+			return
+		}
+		err = fault.Inner
+	}
+	if err != nil {
+		t.Errorf("%s: the last Fault wraps %#v", call, err)
 	}
 }
 
