@@ -3,6 +3,9 @@ package digest
 
 import "math/bits"
 
+// Size is how many bytes a digest has.
+const Size = 32
+
 const (
 	blockSize  = 64 // bytes that are mixed in at once
 	lengthSize = 8  // bytes in which the padding tells the text's length
@@ -91,7 +94,7 @@ func schedule(block string) [64]uint32 {
 }
 
 func told(state [8]uint32) string {
-	digest := make([]byte, 0, 4*len(state))
+	digest := make([]byte, 0, Size)
 	for _, word := range state {
 		digest = append(digest, byte(word>>24), byte(word>>16), byte(word>>8), byte(word))
 	}

@@ -59,7 +59,7 @@ func Blocks(p api.Params, data string) []string {
 	return blocks
 }
 
-// cut gives the pieces of a text, whose length must be a multiple of theirs.
+// cut gives the pieces of a text, in their order. A last one that is not whole is left out.
 func cut(text string, size int) []string {
 	pieces := make([]string, len(text)/size)
 	for i := range pieces {
@@ -98,9 +98,14 @@ func listOf(p api.Params, entries []api.Entry) string {
 func leavesOf(blocks []string) []string {
 	leaves := make([]string, len(blocks))
 	for i, block := range blocks {
-		leaves[i] = digest.Of(leafMark + block)
+		leaves[i] = Leaf(block)
 	}
 	return leaves
+}
+
+// Leaf gives the leaf of a block.
+func Leaf(block string) string {
+	return digest.Of(leafMark + block)
 }
 
 func rootOf(list string, leaves []string) string {

@@ -9,6 +9,7 @@ import (
 	"vault/draft"
 	"vault/fault"
 	"vault/proof"
+	"vault/stock"
 	"vault/stripe"
 )
 
@@ -74,23 +75,48 @@ func (w *Writer) Close() ([]string, string, error) {
 	return w.draft.Close()
 }
 
-// Vault is a vault that was opened.
-type Vault struct{}
+// Vault is a vault that was opened. Its calls may come from several goroutines: the mutex is held while one of them works.
+type Vault struct {
+	mutex sync.Mutex
+	stock *stock.Stock
+}
 
 // Open opens a vault (P12).
-func Open(volumes []string, root string) (*Vault, error) { return nil, nil }
+func Open(volumes []string, root string) (*Vault, error) {
+	opened, err := stock.Open(volumes, root)
+	if err != nil {
+		return nil, err
+	}
+	return &Vault{stock: opened}, nil
+}
 
 // Params tells the vault's params (P13).
-func (v *Vault) Params() api.Params { return api.Params{} }
+func (v *Vault) Params() api.Params {
+	v.mutex.Lock()
+	defer v.mutex.Unlock()
+	return v.stock.Params()
+}
 
 // Root tells the vault's root (P13).
-func (v *Vault) Root() string { return "" }
+func (v *Vault) Root() string {
+	v.mutex.Lock()
+	defer v.mutex.Unlock()
+	return v.stock.Root()
+}
 
 // Objects tells which objects there are (P13).
-func (v *Vault) Objects() []api.Entry { return nil }
+func (v *Vault) Objects() []api.Entry {
+	v.mutex.Lock()
+	defer v.mutex.Unlock()
+	return v.stock.Objects()
+}
 
 // Verify tells what is there (P14).
-func (v *Vault) Verify() api.Report { return api.Report{} }
+func (v *Vault) Verify() api.Report {
+	v.mutex.Lock()
+	defer v.mutex.Unlock()
+	return v.stock.Verify()
+}
 
 // Unpack gives the objects (P15).
 func (v *Vault) Unpack() ([]api.Object, error) { return nil, nil }

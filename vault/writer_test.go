@@ -202,15 +202,17 @@ func many(count, length int) []api.Object {
 	return list
 }
 
-// TestVolumes: P10 at the edges.
-func TestVolumes(t *testing.T) {
+// edge: a vault at one of the edges that the document names.
+type edge struct {
+	what    string
+	p       api.Params
+	objects []api.Object
+}
+
+func edges() []edge {
 	random := rand.New(rand.NewSource(21))
 	text := func(length int) string { return randomBlocks(random, 1, length)[0] }
-	for _, c := range []struct {
-		what    string
-		p       api.Params
-		objects []api.Object
-	}{
+	return []edge{
 		{"no object", params(3, 2, 5, 4), nil},
 		{"no object, all params at their least", params(1, 0, 1, 1), nil},
 		{"all params at their least", params(1, 0, 1, 1), objects("x", text(9))},
@@ -248,7 +250,12 @@ func TestVolumes(t *testing.T) {
 		{"volumes without a block", params(1, 0, 4, 16), nil},
 		{"no parity", params(5, 0, 3, 4), objects("x", text(50))},
 		{"data of bytes 0", params(3, 2, 4, 2), objects("x", strings.Repeat("\x00", 20), "y", "\x00")},
-	} {
+	}
+}
+
+// TestVolumes: P10 at the edges.
+func TestVolumes(t *testing.T) {
+	for _, c := range edges() {
 		volumes, root := packed(t, c.p, c.objects)
 		checkVolumes(t, c.what, c.p, c.objects, volumes, root)
 		for v, volume := range volumes {
