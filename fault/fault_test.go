@@ -31,6 +31,38 @@ func TestOver(t *testing.T) {
 	}
 }
 
+func TestLost(t *testing.T) {
+	err := Lost(7, []string{"a", "b"})
+	var fault *api.Fault
+	var missing *api.Missing
+	if !errors.As(err, &fault) || fault.Kind != api.ErrLost || fault.Where != 7 || !errors.Is(err, api.ErrLost) || errors.Is(err, api.ErrBig) {
+		t.Errorf("Lost(7, a b) = %#v", err)
+	}
+	if !errors.As(err, &missing) || !slices.Equal(missing.Names, []string{"a", "b"}) {
+		t.Errorf("Lost(7, a b) has the names %v", missing)
+	}
+}
+
+// TestNames: P17, and P2: the names that come out are new each time.
+func TestNames(t *testing.T) {
+	lost := Lost(2, []string{"a", "b"})
+	for _, c := range []struct {
+		err  error
+		want []string
+	}{
+		{nil, nil}, {At(api.ErrLost, 2), nil}, {Over(api.ErrState, 2, At(api.ErrLost, 2)), nil}, {lost, []string{"a", "b"}}, {Over(api.ErrState, 1, lost), []string{"a", "b"}},
+	} {
+		first, second := Names(c.err), Names(c.err)
+		if !slices.Equal(first, c.want) {
+			t.Errorf("P17: Names(%v) = %q, want %q", c.err, first, c.want)
+		}
+		clear(first[:cap(first)])
+		if !slices.Equal(second, c.want) || !slices.Equal(Names(c.err), c.want) {
+			t.Errorf("P2: Names(%v): writing into one answer changed another", c.err)
+		}
+	}
+}
+
 // TestMarks: P17, also for the errors over others that later calls answer.
 func TestMarks(t *testing.T) {
 	code := &api.Fault{Kind: api.ErrCode, Where: 0}

@@ -15,7 +15,7 @@ type Stock struct {
 	head     *layout.Head
 	unread   []int      // places in the list of volumes
 	read     []bool     // by the number of the volume
-	blocks   []string   // by number; empty, where not all of a block is there
+	blocks   []string   // by number; empty, where not all of a block is there; in a stripe that was made good, what was made
 	findings []*finding // by the number of the stripe; nil until it was worked out
 }
 

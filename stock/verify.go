@@ -71,6 +71,9 @@ func (s *Stock) workOut(number int) *finding {
 		found.fate = short
 	} else if s.isForged(number, blocks, good, made) {
 		found.fate = forged
+	} else {
+		// For the calls to come. Which ones were bad is told by the finding alone from here on.
+		copy(blocks, made)
 	}
 	return found
 }

@@ -32,6 +32,8 @@ func TestCallsWait(t *testing.T) {
 	checkWaits(t, "Root", &vault.mutex, func() { vault.Root() })
 	checkWaits(t, "Objects", &vault.mutex, func() { vault.Objects() })
 	checkWaits(t, "Verify", &vault.mutex, func() { vault.Verify() })
+	checkWaits(t, "Unpack", &vault.mutex, func() { vault.Unpack() })
+	checkWaits(t, "Repair", &vault.mutex, func() { vault.Repair() })
 }
 
 func checkWaits(t *testing.T, what string, mutex *sync.Mutex, call func()) {

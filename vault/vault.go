@@ -119,13 +119,21 @@ func (v *Vault) Verify() api.Report {
 }
 
 // Unpack gives the objects (P15).
-func (v *Vault) Unpack() ([]api.Object, error) { return nil, nil }
+func (v *Vault) Unpack() ([]api.Object, error) {
+	v.mutex.Lock()
+	defer v.mutex.Unlock()
+	return v.stock.Unpack()
+}
 
 // Repair gives the volumes as they were (P16).
-func (v *Vault) Repair() ([]string, error) { return nil, nil }
+func (v *Vault) Repair() ([]string, error) {
+	v.mutex.Lock()
+	defer v.mutex.Unlock()
+	return v.stock.Repair()
+}
 
 // Faults lists an error and those that it wraps (P17).
 func Faults(err error) []api.Mark { return fault.Marks(err) }
 
 // Lost gives the names that an error tells as lost (P17).
-func Lost(err error) []string { return nil }
+func Lost(err error) []string { return fault.Names(err) }

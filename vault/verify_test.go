@@ -376,6 +376,25 @@ func TestVerifyAny(t *testing.T) {
 	}
 }
 
+// changed: what is to be read of a volume that was changed anywhere, and made to hold together again if it can be.
+func changed(random *rand.Rand, volume string) *reading {
+	text := spoiled(random, volume)
+	for range 3 {
+		text = mended(text)
+	}
+	return readingOf(text)
+}
+
+// found: the leaves of all blocks that a volume tells, and those blocks that it has whole, by their numbers.
+func (r *reading) found() (leaves, there []string) {
+	leaves = pieces(r.leaves)
+	there = make([]string, len(leaves))
+	for b, blocks := r.v*len(leaves)/r.p.Volumes, r.text[r.place:]; len(blocks) >= r.p.Chunk; b++ {
+		there[b], blocks = blocks[:r.p.Chunk], blocks[r.p.Chunk:]
+	}
+	return leaves, there
+}
+
 // TestVerifyOne: P1, P14: a volume that was changed anywhere, if it can be read.
 func TestVerifyOne(t *testing.T) {
 	random := rand.New(rand.NewSource(52))
@@ -383,22 +402,14 @@ func TestVerifyOne(t *testing.T) {
 		p, list := anyVault(random)
 		volumes, _ := packed(t, p, list)
 		for range 30 {
-			text := spoiled(random, volumes[random.Intn(len(volumes))])
-			for range 3 {
-				text = mended(text)
-			}
-			r := readingOf(text)
+			r := changed(random, volumes[random.Intn(len(volumes))])
 			if r.mark.Kind != 0 {
 				continue
 			}
-			leaves := pieces(r.leaves)
-			there := make([]string, len(leaves))
-			for b, blocks := r.v*len(leaves)/r.p.Volumes, text[r.place:]; len(blocks) >= r.p.Chunk; b++ {
-				there[b], blocks = blocks[:r.p.Chunk], blocks[r.p.Chunk:]
-			}
+			leaves, there := r.found()
 			want := api.Report{Absent: slices.Delete(upTo(r.p.Volumes), r.v, r.v+1)}
 			want.Bad, want.Short, want.Forged = findingsOf(r.p, r.total, leaves, there)
-			checkReport(t, fmt.Sprintf("%x", text), opened(t, []string{text}, ""), want)
+			checkReport(t, fmt.Sprintf("%x", r.text), opened(t, []string{r.text}, ""), want)
 		}
 	}
 }
